@@ -1,0 +1,106 @@
+"""The examples of the document, as they are written there."""
+import doctest
+import pathlib
+import unittest
+
+from tests.support import run_examples
+
+CHARTS = """
+    >>> from whateverothers.charts import chart_error, near
+    >>> wheel = (5, ((0, 1), (0, 3), (0, 4), (1, 2), (1, 4), (2, 3), (2, 4), (3, 4)), (0, 2))
+    >>> [chart_error(value) for value in (wheel, (1, (), ()), (24, ((0, 23),), (0, 23)), (5, [], ()), (0, (), ()), (25, (), ()), (True, (), ()), None)]
+    [None, None, None, 'form', 'many', 'many', 'many', 'form']
+    >>> [chart_error((3, roads, centres)) for roads, centres in ((((0, 1), (0, 1)), ()), (((1, 0),), ()), (((0, 3),), (3,)), (((0, 2), (0, 1)), ()), ((), (1, 0)), ((), (2, True)))]
+    [('road', 1), ('road', 0), ('road', 0), ('road', 1), ('centre', 1), ('centre', 1)]
+    >>> near(wheel, 4), near(wheel, 1), near((1, (), ()), 0)
+    ((0, 1, 2, 3), (0, 2, 4), ())
+"""
+
+CHART_TEXTS = """
+    >>> wheel = (5, ((0, 1), (0, 3), (0, 4), (1, 2), (1, 4), (2, 3), (2, 4), (3, 4)), (0, 2))
+    >>> from whateverothers.charttexts import chart_text, read_chart
+    >>> chart_text(wheel), chart_text((1, (), ()))
+    ('5: 0-1 0-3 0-4 1-2 1-4 2-3 2-4 3-4; 0 2', '1:;')
+    >>> read_chart("3: 0-2; 1"), read_chart(chart_text(wheel)) == wheel
+    ((3, ((0, 2),), (1,)), True)
+    >>> read_chart("3: 2-0;")
+    raises BadText()
+    >>> read_chart("3: 0-2 ;")
+    raises BadText()
+    >>> read_chart("03:;")
+    raises BadText()
+"""
+
+BOARDS = """
+    >>> from whateverothers.boards import board_error
+    >>> from whateverothers.ordering import orders_error, orders_of
+    >>> wheel = (5, ((0, 1), (0, 3), (0, 4), (1, 2), (1, 4), (2, 3), (2, 4), (3, 4)), (0, 2))
+    >>> three, four = (wheel, ((0, 0), (1, 1), (4, 0))), (wheel, ((0, 0), (1, 1), (3, 1), (4, 0)))
+    >>> [board_error(value) for value in (three, four, (wheel, ()), wheel, (wheel, [(0, 0)]), ((0, (), ()), ()), (wheel, ((1, 0), (0, 0))), (wheel, ((0, 6),)), (wheel, ((5, 0),)))]
+    [None, None, None, 'form', 'pieces', ('chart', 'many'), ('piece', 1), ('piece', 0), ('piece', 0)]
+    >>> orders_of(three, 0)
+    (('stay',), ('go', 1), ('go', 3), ('go', 4), ('back', 1, 1), ('back', 1, 4), ('back', 4, 1), ('back', 4, 3), ('back', 4, 4))
+    >>> [orders_error(three, value) for value in ((("go", 1), ("stay",), ("back", 0, 1)), (("stay",),) * 3, (("stay",),) * 2, (("go", 2), ("stay",), ("stay",)), (("stay",), ("back", 0, 3), ("stay",)), (("stay",), ("stay",), ("back", 0, 4)))]
+    [None, None, 'form', ('order', 0), ('order', 1), ('order', 2)]
+"""
+
+BOARD_TEXTS = """
+    >>> wheel = (5, ((0, 1), (0, 3), (0, 4), (1, 2), (1, 4), (2, 3), (2, 4), (3, 4)), (0, 2))
+    >>> three, four = (wheel, ((0, 0), (1, 1), (4, 0))), (wheel, ((0, 0), (1, 1), (3, 1), (4, 0)))
+    >>> from whateverothers.boardtexts import orders_text, pieces_text, read_orders, read_pieces
+    >>> pieces_text(four[1]), pieces_text(()), read_pieces(wheel, "0:a 4:f"), read_pieces(wheel, "")
+    ('0:a 1:b 3:b 4:a', '', ((0, 0), (4, 5)), ())
+    >>> orders_text(three, (("go", 1), ("stay",), ("back", 0, 1))), orders_text((wheel, ()), ())
+    ('0 go 1; 1 stay; 4 back 0 1', '')
+    >>> read_orders(three, "0 stay; 1 go 2; 4 back 1 2")
+    (('stay',), ('go', 2), ('back', 1, 2))
+    >>> read_orders(three, "1 go 2; 0 stay; 4 stay")
+    raises BadText()
+    >>> read_pieces(wheel, "0:a 0:b")
+    raises BadText()
+"""
+
+RULES = """
+    >>> from whateverothers.rules import fits, settlement_error
+    >>> wheel = (5, ((0, 1), (0, 3), (0, 4), (1, 2), (1, 4), (2, 3), (2, 4), (3, 4)), (0, 2))
+    >>> three, four = (wheel, ((0, 0), (1, 1), (4, 0))), (wheel, ((0, 0), (1, 1), (3, 1), (4, 0)))
+    >>> push, back, cut = (("go", 1), ("stay",), ("back", 0, 1)), (("go", 1), ("go", 4), ("back", 0, 1)), (("go", 1), ("stay",), ("go", 4), ("back", 0, 1))
+    >>> fits(three, push, 2), fits(three, (("stay",), ("stay",), ("back", 0, 1)), 2), fits(three, (("stay",), ("go", 4), ("back", 0, 0)), 2)
+    (True, False, True)
+    >>> [settlement_error(three, push, value) for value in ((True, True, True), (False, True, True), (True, True, False), (True, True), [True, True, True], (1, 1, 1))]
+    [None, ('order', 0), ('order', 0), 'form', 'form', 'form']
+    >>> [settlement_error(three, back, value) for value in ((True, False, True), (True, True, True), (False, False, False))]
+    [None, ('order', 1), ('order', 2)]
+    >>> [settlement_error(four, cut, value) for value in ((False, True, False, False), (True, True, False, True))]
+    [None, ('order', 3)]
+    >>> ring = (("go", 1), ("go", 4), ("go", 0))
+    >>> [settlement_error(three, ring, value) for value in ((True, True, True), (False, False, False), (True, False, False))]
+    [None, None, ('order', 0)]
+"""
+
+
+class Examples(unittest.TestCase):
+    def test_charts(self):
+        run_examples(self, CHARTS)
+
+    def test_chart_texts(self):
+        run_examples(self, CHART_TEXTS)
+
+    def test_boards_and_orders(self):
+        run_examples(self, BOARDS)
+
+    def test_board_texts(self):
+        run_examples(self, BOARD_TEXTS)
+
+    def test_rules(self):
+        run_examples(self, RULES)
+
+    def test_readme(self):
+        readme = pathlib.Path(__file__).resolve().parent.parent / "README.md"
+        told = doctest.testfile(str(readme), module_relative=False)
+        self.assertEqual(0, told.failed)
+        self.assertGreater(told.attempted, 0)
+
+
+if __name__ == "__main__":
+    unittest.main()

@@ -1,0 +1,47 @@
+"""The interface: names, the files in which they are defined, and the arguments that they take."""
+import ast
+import importlib
+import inspect
+import pathlib
+import unittest
+
+FOLDER = pathlib.Path(__file__).resolve().parent.parent / "whateverothers"
+
+FUNCTIONS = {
+    "charts": {"chart_error": "value", "near": "chart field"},
+    "charttexts": {"chart_text": "chart", "read_chart": "value"},
+    "boards": {"board_error": "value"},
+    "ordering": {"orders_error": "board value", "orders_of": "board place"},
+    "boardtexts": {"pieces_text": "pieces", "read_pieces": "chart value", "orders_text": "board orders",
+                   "read_orders": "board value"},
+    "rules": {"fits": "board orders place", "settlement_error": "board orders value"},
+}
+ERRORS = ("OrderError", "Unfit", "BadText", "BadBoard", "BadOrders", "TooMany", "NotNow", "NothingToUndo",
+          "TooManyEdits", "BadLog")
+
+
+def defined_in(name):
+    tree = ast.parse((FOLDER / f"{name}.py").read_text())
+    return [node.name for node in tree.body if isinstance(node, (ast.FunctionDef, ast.ClassDef))]
+
+
+class Interface(unittest.TestCase):
+    def test_functions_stand_in_their_files(self):
+        for name, functions in FUNCTIONS.items():
+            for function in functions:
+                self.assertEqual(1, defined_in(name).count(function), function)
+
+    def test_functions_take_their_arguments(self):
+        for name, functions in FUNCTIONS.items():
+            module = importlib.import_module(f"whateverothers.{name}")
+            for function, arguments in functions.items():
+                taken = inspect.signature(getattr(module, function)).parameters
+                self.assertEqual(arguments.split(), list(taken))
+                self.assertEqual({inspect.Parameter.POSITIONAL_OR_KEYWORD}, {item.kind for item in taken.values()})
+
+    def test_errors_stand_in_their_file(self):
+        self.assertEqual(list(ERRORS), defined_in("errors"))
+
+
+if __name__ == "__main__":
+    unittest.main()
