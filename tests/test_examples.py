@@ -78,6 +78,70 @@ RULES = """
     [None, None, ('order', 0)]
 """
 
+SETTLING = """
+    >>> from whateverothers.forces import force, standing
+    >>> wheel = (5, ((0, 1), (0, 3), (0, 4), (1, 2), (1, 4), (2, 3), (2, 4), (3, 4)), (0, 2))
+    >>> three, four = (wheel, ((0, 0), (1, 1), (4, 0))), (wheel, ((0, 0), (1, 1), (3, 1), (4, 0)))
+    >>> back, cut = (("go", 1), ("go", 4), ("back", 0, 1)), (("go", 1), ("stay",), ("go", 4), ("back", 0, 1))
+    >>> lost, again = (wheel, ((0, 0), (1, 1), (2, 1), (4, 0))), (("go", 1), ("go", 4), ("back", 1, 4), ("back", 0, 1))
+    >>> standing(three, back), standing(four, cut), standing(lost, again)
+    ((2,), (), (2,))
+    >>> [force(three, back, place) for place in (0, 1, 2)], [force(four, cut, place) for place in (0, 1, 2, 3)], [force(lost, again, place) for place in (0, 1, 2, 3)]
+    ([2, 1, 1], [1, 1, 1, 1], [1, 2, 1, 1])
+    >>> from whateverothers.settling import loose_rings, settled, settlements
+    >>> ring = (("go", 1), ("go", 4), ("go", 0))
+    >>> loose_rings(three, ring), settled(three, ring), settlements(three, ring)
+    (((0, 1, 2),), (True, True, True), ((False, False, False), (True, True, True)))
+    >>> loose_rings(three, back), settled(three, back), settlements(three, back)
+    ((), (True, False, True), ((True, False, True),))
+    >>> settled(four, cut), settled(lost, again)
+    ((False, True, False, False), (True, True, True, False))
+    >>> shoved = (wheel, ((0, 0), (1, 1), (2, 0), (4, 1)))
+    >>> settled(shoved, (("go", 1), ("go", 2), ("go", 1), ("back", 1, 2)))
+    (True, True, False, True)
+    >>> barred = (wheel, ((0, 0), (1, 1), (3, 1), (4, 0)))
+    >>> loose_rings(barred, (("go", 1), ("go", 4), ("go", 4), ("go", 0))), settled(barred, (("go", 1), ("go", 4), ("go", 4), ("go", 0)))
+    ((), (False, False, False, False))
+    >>> from whateverothers.reasons import reasons
+    >>> reasons(three, (("go", 1), ("stay",), ("back", 0, 1))), reasons(three, back)
+    ((('beats', 1), ('pushed', 0), ('stands',)), (('beats', 1), ('held', 2), ('stands',)))
+    >>> reasons(four, cut), reasons(lost, again)
+    ((('held', 1), ('stays',), ('held', 3), ('cut', 2)), (('follows', 1), ('beats', 3), ('stands',), ('lost', 1)))
+    >>> reasons(three, ring), reasons(shoved, (("go", 1), ("go", 2), ("go", 1), ("back", 1, 2)))
+    ((('follows', 1), ('follows', 2), ('follows', 0)), (('follows', 1), ('beats', 2), ('met', 1), ('stands',)))
+    >>> reasons((wheel, ((0, 0), (2, 1))), (("go", 1), ("go", 1))), reasons((wheel, ((0, 0), (1, 0))), (("go", 1), ("stay",)))
+    ((('rival', 1), ('rival', 0)), (('own', 1), ('stays',)))
+    >>> reasons((wheel, ((0, 0), (1, 1))), (("go", 4), ("back", 0, 0)))
+    (('free',), ('unfit',))
+"""
+
+ENDS = """
+    >>> from whateverothers.ends import behind, exits, fought_over, pushed_out
+    >>> wheel = (5, ((0, 1), (0, 3), (0, 4), (1, 2), (1, 4), (2, 3), (2, 4), (3, 4)), (0, 2))
+    >>> three, back = (wheel, ((0, 0), (1, 1), (4, 0))), (("go", 1), ("go", 4), ("back", 0, 1))
+    >>> pushed_out(three, back), fought_over(three, back), exits(three, back)
+    (((1, 0),), (), ((2,),))
+    >>> behind(three, back, (2,)), behind(three, back, (None,))
+    (((1, 0), (2, 1), (4, 0)), ((1, 0), (4, 0)))
+    >>> behind(three, back, (0,))
+    raises Unfit()
+    >>> behind(three, back, ())
+    raises Unfit()
+    >>> lost, again = (wheel, ((0, 0), (1, 1), (2, 1), (4, 0))), (("go", 1), ("go", 4), ("back", 1, 4), ("back", 0, 1))
+    >>> pushed_out(lost, again), exits(lost, again), behind(lost, again, (3,))
+    (((3, 1),), ((0, 3),), ((1, 0), (2, 1), (3, 0), (4, 1)))
+    >>> crowd = (7, ((0, 1), (0, 4), (0, 5), (2, 3), (2, 4), (2, 6)), ())
+    >>> both = (crowd, ((0, 0), (1, 1), (2, 0), (3, 1), (5, 1), (6, 1)))
+    >>> shove = (("stay",), ("go", 0), ("stay",), ("go", 2), ("back", 1, 0), ("back", 3, 2))
+    >>> pushed_out(both, shove), exits(both, shove)
+    (((0, 1), (2, 3)), ((4,), (4,)))
+    >>> behind(both, shove, (4, 4)), behind(both, shove, (4, None))
+    (((0, 1), (2, 1), (5, 1), (6, 1)), ((0, 1), (2, 1), (4, 0), (5, 1), (6, 1)))
+    >>> pair = (wheel, ((0, 0), (2, 1)))
+    >>> fought_over(pair, (("go", 1), ("go", 1))), behind(pair, (("go", 1), ("go", 1)), ())
+    ((1,), ((0, 0), (2, 1)))
+"""
+
 
 class Examples(unittest.TestCase):
     def test_charts(self):
@@ -94,6 +158,12 @@ class Examples(unittest.TestCase):
 
     def test_rules(self):
         run_examples(self, RULES)
+
+    def test_forces_settling_and_reasons(self):
+        run_examples(self, SETTLING)
+
+    def test_ends(self):
+        run_examples(self, ENDS)
 
     def test_readme(self):
         readme = pathlib.Path(__file__).resolve().parent.parent / "README.md"

@@ -15,6 +15,11 @@ FUNCTIONS = {
     "boardtexts": {"pieces_text": "pieces", "read_pieces": "chart value", "orders_text": "board orders",
                    "read_orders": "board value"},
     "rules": {"fits": "board orders place", "settlement_error": "board orders value"},
+    "forces": {"standing": "board orders", "force": "board orders place"},
+    "settling": {"settled": "board orders", "loose_rings": "board orders", "settlements": "board orders"},
+    "reasons": {"reasons": "board orders"},
+    "ends": {"pushed_out": "board orders", "fought_over": "board orders", "exits": "board orders",
+             "behind": "board orders outs"},
 }
 ERRORS = ("OrderError", "Unfit", "BadText", "BadBoard", "BadOrders", "TooMany", "NotNow", "NothingToUndo",
           "TooManyEdits", "BadLog")
