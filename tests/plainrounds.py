@@ -6,12 +6,12 @@ from tests.plain import FULL, Rules, all_orders, is_near, settlement_tuples
 
 
 class Round:
-    """All that is told of one board and its orders."""
+    """All that is told of one board and its orders; kept are all settlements that keep the rules, if they are known."""
 
-    def __init__(self, board, orders):
+    def __init__(self, board, orders, kept=None):
         self.board, self.orders = board, orders
         self.fields = [field for field, _ in board[1]]
-        tried = settlement_tuples(board)
+        tried = settlement_tuples(board) if kept is None else kept
         self.kept = tuple(sorted(value for value in tried if Rules(board, orders, value).error() is None))
         self.settled = tuple(any(items) for items in zip(*self.kept))
         self.rules = Rules(board, orders, self.settled)

@@ -142,6 +142,87 @@ ENDS = """
     ((1,), ((0, 0), (2, 1)))
 """
 
+GAMES = r"""
+    >>> from whateverothers.games import Game
+    >>> wheel = (5, ((0, 1), (0, 3), (0, 4), (1, 2), (1, 4), (2, 3), (2, 4), (3, 4)), (0, 2))
+    >>> three, push = (wheel, ((0, 0), (1, 1), (4, 0))), (("go", 1), ("stay",), ("back", 0, 1))
+    >>> g = Game(wheel, three[1])
+    >>> g.phase, g.year, g.season, g.holders, g.winner, [g.wanted(player) for player in (0, 1, 5)], g.log
+    ('orders', 0, 0, (0, None), None, [-1, -1, 0], ())
+    >>> g.go_on((("go", 1), ("stay",), ("go", 2), ("stay",)))
+    raises BadOrders('form')
+    >>> g.withdraw(())
+    raises NotNow('orders')
+    >>> g.go_on(push), g.board == three, g.orders == push
+    ('outs', True, True)
+    >>> g.withdraw((4,))
+    raises Unfit()
+    >>> g.withdraw((2,)), g.board[1], g.season, g.orders
+    ('orders', ((1, 0), (2, 1), (4, 0)), 1, None)
+    >>> g.go_on((("go", 0), ("stay",), ("stay",))), g.board[1], g.holders, g.winner, [g.wanted(player) for player in (0, 1)]
+    ('builds', ((0, 0), (2, 1), (4, 0)), (0, 1), None, [-1, 0])
+    >>> g.build(())
+    raises Unfit()
+    >>> g.build(((4, 0),)), g.board[1], g.year, g.season, len(g.log), g.log[3]
+    ('orders', ((0, 0), (2, 1)), 1, 0, 4, ('build', ((4, 0),)))
+    >>> [g.undo() for turn in range(4)], g.board == three, g.holders, g.log
+    (['builds', 'orders', 'outs', 'orders'], True, (0, None), ())
+    >>> g.undo()
+    raises NothingToUndo()
+    >>> line = (3, ((0, 1), (1, 2)), (0, 2))
+    >>> w = Game(line, ((0, 3),))
+    >>> w.go_on((("go", 1),)), w.go_on((("go", 2),)), w.holders, w.winner, w.year
+    ('orders', 'ended', (3, 3), 3, 0)
+    >>> w.go_on((("stay",),))
+    raises NotNow('ended')
+    >>> b = Game(line, ((0, 3), (1, 5)))
+    >>> b.go_on((("stay",), ("stay",))), b.go_on((("stay",), ("go", 2))), b.holders, [b.wanted(player) for player in (3, 5)], b.year
+    ('orders', 'orders', (3, 5), [0, 0], 1)
+    >>> from whateverothers.gamelogs import game_behind, game_text, read_game
+    >>> log = (("go_on", push), ("withdraw", (2,)), ("go_on", (("go", 0), ("stay",), ("stay",))))
+    >>> h = game_behind(wheel, three[1], log)
+    >>> h.phase, h.holders, h.log == log
+    ('builds', (0, 1), True)
+    >>> game_text(h)
+    'orders 0 go 1; 1 stay; 4 back 0 1\nouts 2\norders 1 go 0; 2 stay; 4 stay\n'
+    >>> read_game(wheel, three[1], game_text(h)).log == log, read_game(wheel, three[1], "").log, game_text(Game(line, ()))
+    (True, (), '')
+    >>> game_behind(wheel, three[1], log[:1] + log[2:])
+    raises BadLog(1)
+    >>> game_behind(wheel, three[1], [])
+    raises BadLog(0)
+    >>> read_game(wheel, three[1], "orders 0 go 1; 1 stay; 4 back 0 1\nouts 4\n")
+    raises BadText()
+"""
+
+BARS = """
+    >>> from whateverothers.sound import sound_error
+    >>> wheel = (5, ((0, 1), (0, 3), (0, 4), (1, 2), (1, 4), (2, 3), (2, 4), (3, 4)), (0, 2))
+    >>> three, four = (wheel, ((0, 0), (1, 1), (4, 0))), (wheel, ((0, 0), (1, 1), (3, 1), (4, 0)))
+    >>> [sound_error(three, 0, value) for value in ((("go", 1), None, ("back", 0, 1)), (("go", 4), None, ("go", 3)), (("go", 1), None), (("go", 1), ("stay",), ("stay",)), (None, None, ("stay",)))]
+    [None, None, 'form', ('order', 1), ('order', 0)]
+    >>> [sound_error(three, 0, value) for value in ((("back", 1, 1), None, ("stay",)), (("go", 3), None, ("go", 3)), (("go", 4), None, ("stay",)), (("go", 4), None, ("go", 0)))]
+    [('foreign', 0), ('same', 2), ('stays', 0), ('meet', 0)]
+    >>> sound_error(three, 5, (None, None, None)), sound_error(three, 1, (None, ("go", 0), None))
+    (None, None)
+    >>> from whateverothers.bars import bars, cut_pairs
+    >>> push, hold = (("go", 1), None, None, ("back", 0, 1)), (("stay",), None, None, ("back", 0, 0))
+    >>> bars(four, push, 0), bars(four, push, 3)
+    ((('holder', 1, (), (2,), (3,)), ('meeter', 1, (2,), (), (3,))), (('pusher', 1, (2,), (), ()), ('pusher', 2, (), (), ())))
+    >>> bars(four, hold, 0)
+    (('pusher', 1, (2,), (), (3,)), ('pusher', 2, (1,), (), (3,)))
+    >>> line, row = ((4, ((0, 1), (1, 2), (2, 3)), ()), ((0, 0), (1, 0), (3, 1))), (("go", 1), ("go", 2), None)
+    >>> bars(line, row, 0), bars(line, row, 1)
+    ((), (('rival', 2, (), (), ()),))
+    >>> yard = (6, ((0, 1), (1, 2), (1, 3), (2, 4), (2, 5), (3, 4)), ())
+    >>> base, wide = (yard, ((0, 0), (1, 1), (2, 0), (3, 0), (4, 1))), (yard, ((0, 0), (1, 1), (2, 0), (3, 0), (4, 1), (5, 2)))
+    >>> both = (("go", 1), None, ("back", 0, 1), ("back", 0, 1), None)
+    >>> bars(base, both, 0)
+    (('holder', 1, (), (4,), (2, 3)), ('meeter', 1, (), (4,), (2, 3)))
+    >>> cut_pairs(base, bars(base, both, 0)[0]), cut_pairs(wide, bars(wide, both + (None,), 0)[0])
+    (((4, 2), (4, 3)), ((4, 2), (4, 3), (5, 2)))
+"""
+
 
 class Examples(unittest.TestCase):
     def test_charts(self):
@@ -164,6 +245,12 @@ class Examples(unittest.TestCase):
 
     def test_ends(self):
         run_examples(self, ENDS)
+
+    def test_games_and_their_logs(self):
+        run_examples(self, GAMES)
+
+    def test_sound_orders_and_bars(self):
+        run_examples(self, BARS)
 
     def test_readme(self):
         readme = pathlib.Path(__file__).resolve().parent.parent / "README.md"

@@ -5,6 +5,8 @@ import inspect
 import pathlib
 import unittest
 
+from whateverothers.games import Game
+
 FOLDER = pathlib.Path(__file__).resolve().parent.parent / "whateverothers"
 
 FUNCTIONS = {
@@ -20,7 +22,12 @@ FUNCTIONS = {
     "reasons": {"reasons": "board orders"},
     "ends": {"pushed_out": "board orders", "fought_over": "board orders", "exits": "board orders",
              "behind": "board orders outs"},
+    "gamelogs": {"game_behind": "chart pieces value", "game_text": "game", "read_game": "chart pieces value"},
+    "sound": {"sound_error": "board player value"},
+    "bars": {"bars": "board own place", "cut_pairs": "board bar"},
 }
+METHODS = {"go_on": "orders", "withdraw": "outs", "build": "news", "undo": "", "wanted": "player"}
+ATTRIBUTES = ("board", "phase", "year", "season", "holders", "winner", "orders", "log")
 ERRORS = ("OrderError", "Unfit", "BadText", "BadBoard", "BadOrders", "TooMany", "NotNow", "NothingToUndo",
           "TooManyEdits", "BadLog")
 
@@ -43,6 +50,14 @@ class Interface(unittest.TestCase):
                 taken = inspect.signature(getattr(module, function)).parameters
                 self.assertEqual(arguments.split(), list(taken))
                 self.assertEqual({inspect.Parameter.POSITIONAL_OR_KEYWORD}, {item.kind for item in taken.values()})
+
+    def test_games(self):
+        self.assertEqual(["Game"], defined_in("games"))
+        self.assertEqual(["chart", "pieces"], list(inspect.signature(Game).parameters))
+        for name, arguments in METHODS.items():
+            self.assertIn(name, vars(Game))
+            self.assertEqual(["self", *arguments.split()], list(inspect.signature(vars(Game)[name]).parameters))
+        self.assertLessEqual(set(ATTRIBUTES), set(vars(Game((1, (), ()), ()))))
 
     def test_errors_stand_in_their_file(self):
         self.assertEqual(list(ERRORS), defined_in("errors"))

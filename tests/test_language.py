@@ -13,6 +13,11 @@ LIBRARY = {"heapq": {"heappush", "heappop", "heapify", "heapreplace", "heappushp
 BUILTINS = set("""len range enumerate zip min max sum abs sorted reversed int str bool list tuple dict set isinstance
     ord repr any all divmod pow iter next map type super Exception ValueError TypeError KeyError IndexError LookupError
     ZeroDivisionError ArithmeticError OverflowError RuntimeError NotImplementedError NotImplemented""".split())
+METHODS = set("""append clear copy count endswith extend find get index insert isalnum isalpha isdigit islower isspace
+    isupper items join keys ljust lower lstrip partition pop remove replace reverse rfind rjust rpartition rsplit rstrip
+    setdefault split splitlines startswith strip update upper values zfill bit_length title capitalize swapcase casefold
+    center expandtabs removeprefix removesuffix rindex isascii isdecimal isnumeric istitle isidentifier isprintable
+    """.split())
 BARRED = (ast.AsyncFunctionDef, ast.Await, ast.Import, ast.Div)
 
 
@@ -90,6 +95,27 @@ class Words(unittest.TestCase):
                 self.assertNotIsInstance(node, BARRED, path.name)
                 if isinstance(node, ast.Constant):
                     self.assertNotIsInstance(node.value, (float, complex), path.name)
+
+    def test_methods_are_own_ones_or_plain_ones_of_builtin_values(self):
+        own = {item.name for _, tree in trees() for node in tree.body if isinstance(node, ast.ClassDef)
+               for item in node.body if isinstance(item, ast.FunctionDef)}
+        for path, tree in trees():
+            for node in ast.walk(tree):
+                if isinstance(node, ast.Call) and isinstance(node.func, ast.Attribute):
+                    self.assertIn(node.func.attr, METHODS | own, path.name)
+
+    def test_no_name_is_a_method_and_an_attribute(self):
+        classes = [node for _, tree in trees() for node in tree.body if isinstance(node, ast.ClassDef)]
+        methods = {item.name for node in classes for item in node.body if isinstance(item, ast.FunctionDef)}
+        attributes = {item.attr for node in classes for item in ast.walk(node)
+                      if isinstance(item, ast.Attribute) and isinstance(item.ctx, ast.Store)}
+        self.assertEqual(set(), methods & attributes)
+
+    def test_is_stands_beside_none_true_and_false_alone(self):
+        for path, tree in trees():
+            for node in ast.walk(tree):
+                if isinstance(node, ast.Compare) and isinstance(node.ops[0], (ast.Is, ast.IsNot)):
+                    self.assertIsInstance(node.comparators[0], ast.Constant, path.name)
 
     def test_names_are_bound_once_and_are_no_builtins(self):
         # Interactive runs, doctest among them, leave a name "_" behind there.

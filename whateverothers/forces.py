@@ -17,28 +17,15 @@ def force(board, orders, place):
 
 def backs_that_stand(clash):
     """For each piece whether it backs and its back stands."""
-    stands = [_stands_undisturbed(clash, place) for place in range(len(clash.orders))]
-    contested = [place for place in range(len(clash.orders)) if _is_contested(clash, place)]
-    # Whether a go pushes out a piece that backs hangs on backs aimed at this one's field alone, and there comes
-    # no go from this field: so none of them is contested, and of each of them it is told above.
-    pushed = [_is_pushed_out(clash, stands, place) for place in contested]
-    for place, is_pushed in zip(contested, pushed):
-        stands[place] = not is_pushed
-    return stands
+    places = range(len(clash.orders))
+    uncut = [_fits_uncut(clash, place) for place in places]
+    # Whether a piece that backs is pushed out hangs on backs aimed at its field alone. No go comes from there, so
+    # none of them can be lost to one: those that are not cut stand.
+    return [uncut[place] and not _is_pushed_out(clash, uncut, place) for place in places]
 
 
 def _fits_uncut(clash, place):
     return clash.orders[place][0] == "back" and clash.is_fitting(place) and first_cutter(clash, place) is None
-
-
-def _stands_undisturbed(clash, place):
-    """Whether this piece backs, its back fits, and no foreign piece goes to its field."""
-    return _fits_uncut(clash, place) and not clash.foreign_goers_to(place)
-
-
-def _is_contested(clash, place):
-    """Whether the back of this piece hangs on a go from the field that it is aimed at."""
-    return _fits_uncut(clash, place) and len(clash.foreign_goers_to(place)) > 0
 
 
 def _is_pushed_out(clash, stands, place):

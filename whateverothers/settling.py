@@ -77,7 +77,8 @@ def _end(hanging, place):
 def _rings(hanging):
     """The ascending tuple of the rings of gos that hang on each other, each with its least place first."""
     rings = []
-    for start in sorted(hanging):
+    # Places were put into hanging in their order, so the rings ascend by their least places.
+    for start in hanging:
         ring = _way_from(hanging, start)
         if hanging[ring[-1]] == start and min(ring) == start:
             rings.append(tuple(ring))
