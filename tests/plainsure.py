@@ -2,7 +2,8 @@
 import itertools
 import random
 
-from tests.plain import FULL, all_orders, is_near, is_order_of
+from tests.plain import FULL, all_orders, is_near, is_number, is_order_of
+from whateverothers.settling import settled
 
 
 def error_of_sound(board, player, value):
@@ -95,15 +96,133 @@ def most_cuts(backs, pairs, taken):
     return max([most_cuts(backs[1:], pairs, taken)] + [1 + most_cuts(backs[1:], pairs, (*taken, item)) for item in free])
 
 
+def chain_of(board, own, place):
+    """[G5]: the places, told along the fields to which own pieces go."""
+    told = Own(board, own)
+    chain = [board[1][place][0]]
+    while told.goal(chain[-1]) in told.own and told.goal(chain[-1]) not in chain:
+        chain.append(told.goal(chain[-1]))
+    return tuple(told.places[field] for field in chain)
+
+
+def in_the_way(board, own, place):
+    """[H1]: the bars in the way, in order."""
+    told = Own(board, own)
+    return [bar for link in chain_of(board, own, place) for bar in told.bars(board[1][link][0])]
+
+
 def is_sure(board, own, field):
     """[G5], by bars told anew."""
     told = Own(board, own)
-    if told.goal(field) is None:
-        return all(harm_of(board, bar) <= len(bar[4]) for bar in told.bars(field))
-    chain = [field]
-    while told.goal(chain[-1]) in told.own and told.goal(chain[-1]) not in chain:
-        chain.append(told.goal(chain[-1]))
-    return all(harm_of(board, bar) < len(bar[4]) for link in chain for bar in told.bars(link))
+    goes = told.goal(field) is not None
+    return all(harm_of(board, bar) + goes <= len(bar[4]) for bar in in_the_way(board, own, told.places[field]))
+
+
+def is_shut(board, own, field):
+    """[G5], by bars told anew."""
+    told = Own(board, own)
+    goers = [start for start in told.own if told.goal(start) == field]
+    if not told.near_ones(field):
+        return True
+    if not goers:
+        return False
+    bars = [told.bar(goers[0], "rival", main, field) for main in told.near_ones(field)]
+    return all(harm_of(board, bar) <= len(bar[4]) for bar in bars)
+
+
+def told_by_all(board, own):
+    """By all orders of the others: of each own place whether what is ordered always comes about, of each free field
+    whether no foreign piece ever comes in."""
+    fields = [field for field, _ in board[1]]
+    kept = {place: True for place, item in enumerate(own) if item is not None}
+    shut = {field: True for field in range(board[0][0]) if field not in fields}
+    for orders in orders_that_keep(board, own):
+        told = settled(board, orders)
+        into = {order[1]: place for place, order in enumerate(orders) if order[0] == "go" and told[place]}
+        for place in kept:
+            comes_about = told[place] if orders[place][0] == "go" else fields[place] not in into
+            kept[place] = kept[place] and comes_about
+        for field, place in into.items():
+            if field in shut and own[place] is None:
+                shut[field] = False
+    return kept, shut
+
+
+def many_orders(board, own):
+    """How many orders keep own."""
+    many = 1
+    for place, item in enumerate(own):
+        many *= len(all_orders(board, place)) if item is None else 1
+    return many
+
+
+def error_of_paper(board, own, place, value):
+    """[H3], word by word."""
+    bars = in_the_way(board, own, place)
+    if type(value) is not tuple or len(value) != 2 or value[0] not in ("sure", "broken"):
+        return "form"
+    if value[0] == "broken":
+        return error_of_breaking(board, own, place, value[1])
+    if type(value[1]) is not tuple or len(value[1]) != len(bars):
+        return "form"
+    goes = own[place][0] == "go"
+    for spot, bar in enumerate(bars):
+        if not is_cover_of(bar[3], bar[4], pairs_of(board, bar), value[1][spot]):
+            return ("cover", spot)
+        pieces, backs = value[1][spot]
+        if not len(bar[2]) + len(pieces) + len(backs) + goes <= len(bar[4]):
+            return ("cover", spot)
+    return None
+
+
+def error_of_breaking(board, own, place, orders):
+    if type(orders) is not tuple or len(orders) != len(own):
+        return "orders"
+    for at, order in enumerate(orders):
+        if not is_order_of(board, at, order) or own[at] not in (None, order):
+            return "orders"
+    told, field = settled(board, orders), board[1][place][0]
+    if own[place][0] == "go":
+        return "holds" if told[place] else None
+    pushed = any(told[goer] for goer, order in enumerate(orders) if order == ("go", field))
+    return None if pushed else "holds"
+
+
+def is_cover_of(cutters, backs, pairs, value):
+    """[H2], word by word."""
+    if type(value) is not tuple or [type(part) for part in value] != [tuple, tuple]:
+        return False
+    for part, items in zip(value, (cutters, backs)):
+        if not all(is_number(item) and item in items for item in part):
+            return False
+        if any(one >= other for one, other in zip(part, part[1:])):
+            return False
+    return all(cutter in value[0] or back in value[1] for cutter, back in pairs)
+
+
+def drawn_pairs(seed, turns, most_cutters, most_backs):
+    """Cutters, backs, and pairs of them, thin ones and thick ones; the integers are dealt out in any way."""
+    draw = random.Random(seed)
+    for _ in range(turns):
+        many, more = draw.randint(0, most_cutters), draw.randint(0, most_backs)
+        dealt = draw.sample(range(16), many + more)
+        cutters, backs = tuple(sorted(dealt[:many])), tuple(sorted(dealt[many:]))
+        thick = draw.choice((0.2, 0.4, 0.7, 1))
+        yield cutters, backs, tuple(pair for pair in itertools.product(cutters, backs) if draw.random() < thick)
+
+
+def most_pairs(backs, pairs):
+    """How many pairs a greatest matching has, told back by back for each set of cutters that may be taken."""
+    best = {frozenset(): 0}
+    for back in backs:
+        further = dict(best)
+        for taken, many in best.items():
+            for cutter, other in pairs:
+                if other == back and cutter not in taken:
+                    key = taken | {cutter}
+                    further[key] = max(further.get(key, 0), many + 1)
+        best = further
+    return max(best.values())
 
 
 def orders_that_keep(board, own):

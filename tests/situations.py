@@ -95,3 +95,11 @@ def told(chart, pieces_told, orders_told):
     """A board and its orders, by their texts."""
     board = board_of(chart, pieces_told)
     return board, read_orders(board, orders_told)
+
+
+def own_of(board, player, text):
+    """Own orders by a text like that of orders, for the pieces of the player alone."""
+    parts = [part.split(" ") for part in text.split("; ")] if text else []
+    told = {int(field): (word, *[int(item) for item in more]) for field, word, *more in parts}
+    assert set(told) == {field for field, owner in board[1] if owner == player}
+    return tuple(told.get(field) for field, _ in board[1])

@@ -3,9 +3,8 @@ import unittest
 
 from tests.plain import FOUR, FULL, LINE, THREE, WHEEL, all_orders, renamed
 from tests.plainsure import Own, all_own, crowd, drawn_own, error_of_sound, is_sure, orders_that_keep, pairs_of
-from tests.situations import board_of
+from tests.situations import board_of, own_of
 from tests.support import is_plain, returns
-from tests.test_sound import own_of
 from whateverothers.bars import bars, cut_pairs
 from whateverothers.settling import settled
 

@@ -214,6 +214,8 @@ BARS = """
     >>> line, row = ((4, ((0, 1), (1, 2), (2, 3)), ()), ((0, 0), (1, 0), (3, 1))), (("go", 1), ("go", 2), None)
     >>> bars(line, row, 0), bars(line, row, 1)
     ((), (('rival', 2, (), (), ()),))
+    >>> from whateverothers.matching import matched
+    >>> from whateverothers.surety import chain, harm, shut, sure
     >>> yard = (6, ((0, 1), (1, 2), (1, 3), (2, 4), (2, 5), (3, 4)), ())
     >>> base, wide = (yard, ((0, 0), (1, 1), (2, 0), (3, 0), (4, 1))), (yard, ((0, 0), (1, 1), (2, 0), (3, 0), (4, 1), (5, 2)))
     >>> both = (("go", 1), None, ("back", 0, 1), ("back", 0, 1), None)
@@ -221,6 +223,44 @@ BARS = """
     (('holder', 1, (), (4,), (2, 3)), ('meeter', 1, (), (4,), (2, 3)))
     >>> cut_pairs(base, bars(base, both, 0)[0]), cut_pairs(wide, bars(wide, both + (None,), 0)[0])
     (((4, 2), (4, 3)), ((4, 2), (4, 3), (5, 2)))
+    >>> matched((4, 5), (2, 3), ((4, 2), (4, 3), (5, 2))), matched((), (2, 3), ())
+    (((4, 3), (5, 2)), ())
+    >>> harm(base, bars(base, both, 0)[0]), harm(wide, bars(wide, both + (None,), 0)[0]), [harm(four, bar) for bar in bars(four, push, 0)]
+    (1, 2, [1, 1])
+    >>> [sure(base, both, 0), sure(wide, both + (None,), 0), sure(four, push, 0), sure(four, push, 3), sure(four, hold, 0)]
+    [True, False, False, False, True]
+    >>> chain(line, row, 0), sure(line, row, 0), sure(line, row, 1)
+    ((0, 1), False, False)
+    >>> ring = ((wheel, ((0, 0), (1, 0), (4, 0))), (("go", 1), ("go", 4), ("go", 0)))
+    >>> chain(ring[0], ring[1], 1), sure(ring[0], ring[1], 1)
+    ((1, 2, 0), True)
+    >>> [shut(three, (("stay",), None, item), 2) for item in (("go", 2), ("stay",))], shut(three, (("stay",), None, ("stay",)), 3)
+    ([True, False], True)
+"""
+
+PAPERS = """
+    >>> from whateverothers.covers import least_cover
+    >>> least_cover((4,), (2, 3), ((4, 2), (4, 3))), least_cover((4, 5), (2,), ((4, 2), (5, 2))), least_cover((4, 5), (2, 3), ())
+    (((4,), ()), ((), (2,)), ((), ()))
+    >>> least_cover((4, 5), (2, 3), ((4, 2), (4, 3), (5, 2))) in (((4, 5), ()), ((), (2, 3)), ((4,), (2,)))
+    True
+    >>> from whateverothers.breaking import paper, paper_error
+    >>> wheel = (5, ((0, 1), (0, 3), (0, 4), (1, 2), (1, 4), (2, 3), (2, 4), (3, 4)), (0, 2))
+    >>> four, push = (wheel, ((0, 0), (1, 1), (3, 1), (4, 0))), (("go", 1), None, None, ("back", 0, 1))
+    >>> yard = (6, ((0, 1), (1, 2), (1, 3), (2, 4), (2, 5), (3, 4)), ())
+    >>> base, both = (yard, ((0, 0), (1, 1), (2, 0), (3, 0), (4, 1))), (("go", 1), None, ("back", 0, 1), ("back", 0, 1), None)
+    >>> paper(base, both, 0)
+    ('sure', (((4,), ()), ((4,), ())))
+    >>> paper(four, push, 0)[0], paper_error(four, push, 0, paper(four, push, 0))
+    ('broken', None)
+    >>> [paper_error(four, push, 0, ("broken", orders)) for orders in ((("go", 1), ("stay",), ("go", 4), ("back", 0, 1)), (("go", 1), ("go", 0), ("back", 1, 0), ("back", 0, 1)))]
+    [None, None]
+    >>> [paper_error(four, push, 0, ("broken", orders)) for orders in ((("go", 1), ("stay",), ("stay",), ("back", 0, 1)), (("stay",), ("stay",), ("go", 4), ("back", 0, 1)), (("go", 1), None, None, ("back", 0, 1)), None)]
+    ['holds', 'orders', 'orders', 'orders']
+    >>> [paper_error(base, both, 0, value) for value in (("sure", (((4,), ()),)), ("sure", [((4,), ()), ((4,), ())]), ("maybe", ()), ["sure", ()], None)]
+    ['form', 'form', 'form', 'form', 'form']
+    >>> [paper_error(base, both, 0, ("sure", (((4,), ()), item))) for item in (((), ()), ((), (2, 3)), ([4], ()), ((1,), ()), ((4,),), None)]
+    [('cover', 1), ('cover', 1), ('cover', 1), ('cover', 1), ('cover', 1), ('cover', 1)]
 """
 
 
@@ -249,8 +289,11 @@ class Examples(unittest.TestCase):
     def test_games_and_their_logs(self):
         run_examples(self, GAMES)
 
-    def test_sound_orders_and_bars(self):
+    def test_sound_orders_bars_and_what_is_sure(self):
         run_examples(self, BARS)
+
+    def test_covers_and_papers(self):
+        run_examples(self, PAPERS)
 
     def test_readme(self):
         readme = pathlib.Path(__file__).resolve().parent.parent / "README.md"

@@ -25,6 +25,10 @@ FUNCTIONS = {
     "gamelogs": {"game_behind": "chart pieces value", "game_text": "game", "read_game": "chart pieces value"},
     "sound": {"sound_error": "board player value"},
     "bars": {"bars": "board own place", "cut_pairs": "board bar"},
+    "matching": {"matched": "cutters backs pairs"},
+    "surety": {"harm": "board bar", "chain": "board own place", "sure": "board own place", "shut": "board own field"},
+    "covers": {"least_cover": "cutters backs pairs"},
+    "breaking": {"paper": "board own place", "paper_error": "board own place value"},
 }
 METHODS = {"go_on": "orders", "withdraw": "outs", "build": "news", "undo": "", "wanted": "player"}
 ATTRIBUTES = ("board", "phase", "year", "season", "holders", "winner", "orders", "log")

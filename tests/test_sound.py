@@ -3,17 +3,9 @@ import unittest
 
 from tests.plain import FOUR, FULL, LINE, STAR, THREE, WHEEL, renamed
 from tests.plainsure import all_own, drawn_own, error_of_sound
-from tests.situations import board_of
+from tests.situations import board_of, own_of
 from tests.support import any_values, call_alike, exchanged, is_plain, returns, shown
 from whateverothers.sound import sound_error
-
-
-def own_of(board, player, text):
-    """Own orders by a text like that of orders, for the pieces of the player alone."""
-    parts = [part.split(" ") for part in text.split("; ")] if text else []
-    told = {int(field): (word, *[int(item) for item in more]) for field, word, *more in parts}
-    assert set(told) == {field for field, owner in board[1] if owner == player}
-    return tuple(told.get(field) for field, _ in board[1])
 
 
 # What is shown, the chart, pieces, own orders of player a, and what is told of them.

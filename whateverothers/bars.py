@@ -1,86 +1,97 @@
 """Bars: what foreign pieces may do against an own one's order, and who may help and cut there."""
-from whateverothers.boards import field_of, place_in
-from whateverothers.charts import near
+from whateverothers.grounds import Ground
 from whateverothers.sound import is_going, own_met_by
 
 
 def bars(board, own, place):
     """The tuple of the bars of the own piece with this place, own being sound own orders."""
-    return tuple([_bar(board, own, place, kind, main, aim) for kind, main, aim in _mains(board, own, place)])
+    return bars_of(Ground(board), own, place)
 
 
 def cut_pairs(board, bar):
     """The ascending tuple of the pairs of a cutter of bar and a back of bar that it can cut."""
+    return pairs_of(Ground(board), bar)
+
+
+def bars_of(ground, own, place):
+    """The tuple of the bars of the own piece with this place on this ground."""
+    mains = _mains(ground, own, place)
+    backs = _backs(ground, own, place)
+    may_cut = _may_cut(ground, own, place, backs)
+    may_help = {}
+    for _, _, aim in mains:
+        if aim not in may_help:
+            may_help[aim] = _may_help(ground, own, place, aim)
+    return tuple([_bar(kind, main, may_help[aim], may_cut, backs) for kind, main, aim in mains])
+
+
+def pairs_of(ground, bar):
+    """The cut pairs of a bar on this ground."""
     _, _, _, cutters, backs = bar
-    return tuple([(cutter, back) for cutter in cutters for back in backs if _are_near(board, cutter, back)])
+    return tuple([(cutter, back) for cutter in cutters for back in backs if ground.are_near(cutter, back)])
 
 
-def _mains(board, own, place):
+def _mains(ground, own, place):
     """The kinds of the bars, in order, each with the place of its main and the field at which it is aimed."""
-    field = field_of(board, place)
+    field = ground.fields[place]
     if not is_going(own, place):
-        return [("pusher", main, field) for main in _foreign_near(board, own, field)]
+        return [("pusher", main, field) for main in foreign_near(ground, own, field)]
     goal = own[place][1]
-    passed = _passed_by_own(board, own, place)
-    rivals = [("rival", main, goal) for main in _foreign_near(board, own, goal) if main != passed]
-    met = place_in(board, goal)
+    passed = _passed_by_own(ground, own, place)
+    rivals = [("rival", main, goal) for main in foreign_near(ground, own, goal) if main != passed]
+    met = ground.place_in(goal)
     if met is None or own[met] is not None:
         return rivals
     return [("holder", met, goal), ("meeter", met, field), *rivals]
 
 
-def _bar(board, own, place, kind, main, aim):
-    helpers = _helpers(board, own, place, main, aim)
-    backs = _backs(board, own, place)
-    return (kind, main, helpers, _cutters(board, own, place, (main, *helpers), backs), backs)
+def _bar(kind, main, may_help, may_cut, backs):
+    helpers = tuple([other for other in may_help if other != main])
+    cutters = tuple([other for other in may_cut if other != main and other not in helpers])
+    return (kind, main, helpers, cutters, backs)
 
 
-def _helpers(board, own, place, main, aim):
-    """The foreign pieces that may back the main at the field aimed at."""
+def _may_help(ground, own, place, aim):
+    """The foreign pieces that may back another one at the field aimed at, against the own one with this place."""
     # Behind an own piece that wins, the one in the field where this goes to is repelled or pushed out; and that the
     # own piece wins is looked at in its own bars.
-    passed = _passed_by_own(board, own, place)
-    return tuple([other for other in _foreign_near(board, own, aim)
-                  if other not in (main, passed) and not _is_struck(board, own, other, aim)])
+    passed = _passed_by_own(ground, own, place)
+    struck = [goal for start, goal in _gos(ground, own) if start != aim]
+    return [other for other in foreign_near(ground, own, aim)
+            if other != passed and ground.fields[other] not in struck]
 
 
-def _cutters(board, own, place, taken, backs):
-    """The foreign pieces that are not taken and may come at one of the backs."""
+def _may_cut(ground, own, place, backs):
+    """The foreign pieces that may come at one of the backs, and cut it."""
     # A back that is aimed at a field is not cut by a go that comes from there.
     spared = own[place][1] if is_going(own, place) else None
-    return tuple([other for other, order in enumerate(own)
-                  if order is None and other not in taken and field_of(board, other) != spared
-                  and any([_are_near(board, other, back) for back in backs])])
+    return [other for other, order in enumerate(own)
+            if order is None and ground.fields[other] != spared
+            and any([ground.are_near(other, back) for back in backs])]
 
 
-def _backs(board, own, place):
+def _backs(ground, own, place):
     """The places of the own pieces that back this one as it is ordered."""
-    field = field_of(board, place)
+    field = ground.fields[place]
     aim = own[place][1] if is_going(own, place) else field
     return tuple([other for other, order in enumerate(own) if order == ("back", field, aim)])
 
 
-def _is_struck(board, own, place, aim):
-    """Whether an own piece that stands elsewhere than in aim goes to the field of this foreign one."""
-    field = field_of(board, place)
-    return any([order == ("go", field) and field_of(board, other) != aim for other, order in enumerate(own)])
+def _gos(ground, own):
+    """The fields from which and to which own pieces go."""
+    return [(ground.fields[place], own[place][1]) for place in range(len(own)) if is_going(own, place)]
 
 
-def _passed_by_own(board, own, place):
+def _passed_by_own(ground, own, place):
     """The place of the piece in the field to which the own piece goes that this one comes behind; or None."""
     if not is_going(own, place):
         return None
-    ahead = own_met_by(board, own, place)
+    ahead = own_met_by(ground, own, place)
     if ahead is None:
         return None
-    return place_in(board, own[ahead][1])
+    return ground.place_in(own[ahead][1])
 
 
-def _foreign_near(board, own, field):
+def foreign_near(ground, own, field):
     """The places of all foreign pieces in fields near field, ascending."""
-    fields = near(board[0], field)
-    return [place for place, order in enumerate(own) if order is None and field_of(board, place) in fields]
-
-
-def _are_near(board, place, other):
-    return field_of(board, place) in near(board[0], field_of(board, other))
+    return [place for place in ground.places_near(field) if own[place] is None]

@@ -1,5 +1,6 @@
 """Own orders of a player, and whether they are sound: whether own pieces do not stand in each other's way."""
-from whateverothers.boards import field_of, place_in, player_of
+from whateverothers.boards import player_of
+from whateverothers.grounds import Ground
 from whateverothers.kinds import is_tuple_of
 from whateverothers.ordering import is_order
 
@@ -11,8 +12,9 @@ def sound_error(board, player, value):
     for place, item in enumerate(value):
         if not _is_item(board, player, place, item):
             return ("order", place)
-    told = (("foreign", _backing_foreign(board, value)), ("same", _going_where_one_ahead_goes(value)),
-            ("stays", _going_at_staying(board, value)), ("meet", _going_against_own(board, value)))
+    ground = Ground(board)
+    told = (("foreign", _backing_foreign(ground, value)), ("same", _going_where_one_ahead_goes(value)),
+            ("stays", _going_at_staying(ground, value)), ("meet", _going_against_own(ground, value)))
     for word, places in told:
         if len(places) > 0:
             return (word, places[0])
@@ -24,9 +26,9 @@ def is_going(own, place):
     return own[place] is not None and own[place][0] == "go"
 
 
-def own_met_by(board, own, place):
+def own_met_by(ground, own, place):
     """The place of the own piece in the field to which this one, which goes, goes; None if there is none."""
-    met = place_in(board, own[place][1])
+    met = ground.place_in(own[place][1])
     if met is None or own[met] is None:
         return None
     return met
@@ -38,9 +40,9 @@ def _is_item(board, player, place, item):
     return is_order(board, place, item)
 
 
-def _backing_foreign(board, own):
+def _backing_foreign(ground, own):
     return [place for place, order in enumerate(own)
-            if order is not None and order[0] == "back" and own[place_in(board, order[1])] is None]
+            if order is not None and order[0] == "back" and own[ground.place_in(order[1])] is None]
 
 
 def _goers(own):
@@ -51,11 +53,11 @@ def _going_where_one_ahead_goes(own):
     return [place for place in _goers(own) if own[place] in own[:place]]
 
 
-def _going_at_staying(board, own):
-    met = [(place, own_met_by(board, own, place)) for place in _goers(own)]
+def _going_at_staying(ground, own):
+    met = [(place, own_met_by(ground, own, place)) for place in _goers(own)]
     return [place for place, other in met if other is not None and not is_going(own, other)]
 
 
-def _going_against_own(board, own):
-    met = [(place, own_met_by(board, own, place)) for place in _goers(own)]
-    return [place for place, other in met if other is not None and own[other] == ("go", field_of(board, place))]
+def _going_against_own(ground, own):
+    met = [(place, own_met_by(ground, own, place)) for place in _goers(own)]
+    return [place for place, other in met if other is not None and own[other] == ("go", ground.fields[place])]
