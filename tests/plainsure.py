@@ -93,7 +93,8 @@ def most_cuts(backs, pairs, taken):
     if not backs:
         return 0
     free = [cutter for cutter, back in pairs if back == backs[0] and cutter not in taken]
-    return max([most_cuts(backs[1:], pairs, taken)] + [1 + most_cuts(backs[1:], pairs, (*taken, item)) for item in free])
+    cut = [1 + most_cuts(backs[1:], pairs, (*taken, cutter)) for cutter in free]
+    return max([most_cuts(backs[1:], pairs, taken), *cut])
 
 
 def chain_of(board, own, place):

@@ -99,8 +99,10 @@ class Errors(unittest.TestCase):
 
     def test_form(self):
         one = ((4,), ())
-        for value in (("sure", (one,)), ("sure", (one, one, one)), ("sure", ()), ("sure", [one, one]), ("maybe", (one, one)),
-                      ["sure", (one, one)], ("sure",), ("broken",), ("broken", 1, 2), ("sure", (one, one), ()), (), "sure",
+        for value in (("sure", (one,)), ("sure", (one, one, one)), ("sure", ()), ("sure", [one, one]),
+                      ("maybe", (one, one)),
+                      ["sure", (one, one)], ("sure",), ("broken",), ("broken", 1, 2), ("sure", (one, one), ()), (),
+                      "sure",
                       ("Sure", (one, one)), ("sure ", (one, one)), (("sure",), (one, one)), (None, (one, one)),
                       (True, None), ("", ()), ("sure", None), ("sure", "ab"), ["broken", ()], ("breaks", ())):
             self.told("form", value)
@@ -108,7 +110,8 @@ class Errors(unittest.TestCase):
     def test_covers(self):
         one = ((4,), ())
         self.told(None, ("sure", (one, one)))
-        for item in (((), ()), ((), (2,)), ((), (3,)), ((), (2, 3)), ((4,), (2,)), ((4,), (2, 3)), ([4], ()), ((4,), []),
+        for item in (((), ()), ((), (2,)), ((), (3,)), ((), (2, 3)), ((4,), (2,)), ((4,), (2, 3)), ([4], ()),
+                     ((4,), []),
                      ((1,), ()), ((4,),), ((4,), (), ()), [(4,), ()], None, (4, 0), (4, ()), ((4, 4), ()), ((5,), ()),
                      ((2,), (4,)), ((), (4,)), ((2,), ()), ((1, 4), ()), (("4",), ()), ((None,), ()), "ab", 1, True):
             self.told(("cover", 0), ("sure", (item, one)))
@@ -156,14 +159,17 @@ class Errors(unittest.TestCase):
     def test_orders(self):
         cut = (("go", 1), ("stay",), ("go", 4), ("back", 0, 1))
         self.told(None, ("broken", cut), FOUR, PUSH)
-        for orders in (PUSH, None, (), cut[:3], cut + (("stay",),), list(cut), (("stay",), *cut[1:]), (*cut[:3], ("stay",)),
+        for orders in (PUSH, None, (), cut[:3], cut + (("stay",),), list(cut), (("stay",), *cut[1:]),
+                       (*cut[:3], ("stay",)),
                        (*cut[:2], ("go", 1), cut[3]), (*cut[:1], ("go", True), *cut[2:]), (cut[0], None, *cut[2:]),
-                       (*cut[:2], ["go", 4], cut[3]), ("go", 1), cut[::-1], 1, True, "orders", (*cut[:1], ("go", 5), *cut[2:])):
+                       (*cut[:2], ["go", 4], cut[3]), ("go", 1), cut[::-1], 1, True, "orders",
+                       (*cut[:1], ("go", 5), *cut[2:])):
             self.told("orders", ("broken", orders), FOUR, PUSH)
         self.told("orders", ("broken", (("go", True), *cut[1:])), FOUR, PUSH)
 
     def test_holds(self):
-        for orders in ((("go", 1), ("stay",), ("stay",), ("back", 0, 1)), (("go", 1), ("go", 4), ("stay",), ("back", 0, 1)),
+        for orders in ((("go", 1), ("stay",), ("stay",), ("back", 0, 1)),
+                       (("go", 1), ("go", 4), ("stay",), ("back", 0, 1)),
                        (("go", 1), ("go", 2), ("go", 2), ("back", 0, 1))):
             self.told("holds", ("broken", orders), FOUR, PUSH)
         hold = (("stay",), None, None, ("stay",))
@@ -177,9 +183,11 @@ class Errors(unittest.TestCase):
             many = len(in_the_way(board, own, place))
             for value in any_values():
                 for tried in (value, ("sure", value), ("broken", value), (value, ()), (value, value),
-                              ("sure", (value,) * many), ("sure", ((value, ()),) * many), ("sure", (((), value),) * many),
+                              ("sure", (value,) * many), ("sure", ((value, ()),) * many),
+                              ("sure", (((), value),) * many),
                               ("sure", (((value,), ()),) * many), ("broken", (value,) * len(own))):
-                    returns(self, error_of_paper(board, own, place, tried), paper_error, board=board, own=own, place=place,
+                    returns(self, error_of_paper(board, own, place, tried), paper_error, board=board, own=own,
+                            place=place,
                             value=tried)
 
 
@@ -201,8 +209,8 @@ class AgainstAll(unittest.TestCase):
 
     def test_all_orders_that_keep_own(self):
         drawn = [(board, own) for _, board, own, _ in by_hand() if many_orders(board, own) <= 2000]
-        drawn += [(board, own) for board in (THREE, (LINE, ((0, 0), (1, 0), (2, 1), (3, 0)))) for own in all_own(board, 0)
-                  if error_of_sound(board, 0, own) is None]
+        for board in (THREE, (LINE, ((0, 0), (1, 0), (2, 1), (3, 0)))):
+            drawn += [(board, own) for own in all_own(board, 0) if error_of_sound(board, 0, own) is None]
         for board, own in drawn:
             for place in own_places(own):
                 errors = [paper_error(board, own, place, ("broken", orders)) for orders in orders_that_keep(board, own)]

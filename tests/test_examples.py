@@ -263,6 +263,93 @@ PAPERS = """
     [('cover', 1), ('cover', 1), ('cover', 1), ('cover', 1), ('cover', 1), ('cover', 1)]
 """
 
+HELPING = """
+    >>> from whateverothers.helping import least_backs
+    >>> wheel = (5, ((0, 1), (0, 3), (0, 4), (1, 2), (1, 4), (2, 3), (2, 4), (3, 4)), (0, 2))
+    >>> three, four = (wheel, ((0, 0), (1, 1), (4, 0))), (wheel, ((0, 0), (1, 1), (3, 1), (4, 0)))
+    >>> least_backs(three, (("go", 1), None, ("stay",)), 0), least_backs(three, (("go", 1), None, ("back", 0, 1)), 0)
+    ((('go', 1), None, ('back', 0, 1)), (('go', 1), None, ('back', 0, 1)))
+    >>> least_backs(four, (("go", 1), None, None, ("stay",)), 0), least_backs(four, (("go", 1), None, None, ("back", 0, 1)), 0)
+    (None, None)
+    >>> least_backs(four, (("stay",), None, None, ("stay",)), 3), least_backs(three, (("stay",), None, ("stay",)), 2)
+    ((('back', 4, 4), None, None, ('stay',)), (('stay',), None, ('stay',)))
+"""
+
+HIDDEN = """
+    >>> from whateverothers.hidden import known, ways
+    >>> wheel = (5, ((0, 1), (0, 3), (0, 4), (1, 2), (1, 4), (2, 3), (2, 4), (3, 4)), (0, 2))
+    >>> three, push = (wheel, ((0, 0), (1, 1), (4, 0))), (("go", 1), None, ("back", 0, 1))
+    >>> [orders[1] for orders in ways(three, push, ((1, 0), (4, 0)))]
+    [('stay',), ('go', 0), ('go', 4), ('back', 0, 0), ('back', 0, 4), ('back', 4, 0), ('back', 4, 2), ('back', 4, 4)]
+    >>> ways(three, push, ((1, 0), (2, 1), (4, 0))), ways(three, push, ((0, 0), (1, 1), (4, 0)))
+    (((('go', 1), ('go', 2), ('back', 0, 1)),), ())
+    >>> known(three, push, ((1, 0), (4, 0))), known(three, push, ((1, 0), (2, 1), (4, 0)))
+    ((('go', 1), None, ('back', 0, 1)), (('go', 1), ('go', 2), ('back', 0, 1)))
+    >>> ways(three, (None, ("stay",), None), ((1, 0), (4, 0)))
+    ((('go', 1), ('stay',), ('back', 0, 1)),)
+    >>> len(ways(three, (("go", 1), None, None), ((0, 0), (1, 1), (4, 0))))
+    64
+    >>> known(three, push, ((0, 0), (1, 1), (4, 0)))
+    raises Unfit()
+    >>> ways(three, (("go", 1), ("stay",), ("stay",)), ((0, 0), (1, 1), (4, 0))) == ((("go", 1), ("stay",), ("stay",)),)
+    True
+"""
+
+PLANS = """
+    >>> from whateverothers.plans import plan, sure_of
+    >>> wheel = (5, ((0, 1), (0, 3), (0, 4), (1, 2), (1, 4), (2, 3), (2, 4), (3, 4)), (0, 2))
+    >>> three, four = (wheel, ((0, 0), (1, 1), (4, 0))), (wheel, ((0, 0), (1, 1), (3, 1), (4, 0)))
+    >>> sure_of(three, (("go", 1), None, ("back", 0, 1)), (("take", 1), ("hold", 4), ("hold", 0), ("take", 4)))
+    (True, True, False, False)
+    >>> plan(three, 0, (("take", 1),)), plan(three, 0, (("take", 1), ("hold", 4)))
+    ((('go', 1), None, ('back', 0, 1)), (('go', 1), None, ('back', 0, 1)))
+    >>> plan(four, 0, (("hold", 4),)), plan(four, 0, (("take", 1),)), plan(three, 0, (("take", 0),))
+    ((('back', 4, 4), None, None, ('stay',)), None, None)
+    >>> crowd = (wheel, tuple([(field, 0) for field in range(5)]))
+    >>> plan(crowd, 0, (("hold", 0),))
+    raises TooMany(20000)
+"""
+
+SHELLS = r"""
+    >>> from whateverothers.shells import Shell
+    >>> s = Shell()
+    >>> s.say("show"), s.say("start 5: 0-1 0-3 0-4 1-2 1-4 2-3 2-4 3-4; 0 2 / 0:a 1:b 4:a"), s.say("show")
+    ('no game', 'orders', 'year 0 round 0 orders; 0:a 1:b 4:a; 0:a 2:-')
+    >>> s.say("settle 0 go 1; 1 stay; 4 back 0 1"), s.say("settle 0 go 1; 1 go 4; 4 stay"), s.say("rings 0 go 1; 1 go 4; 4 go 0")
+    ('0+ 1+ 4+', '0- 1- 4+', '0>1>4')
+    >>> s.say("sure a 0 go 1; 4 back 0 1"), s.say("paper a 0 / 0 go 1; 4 back 0 1"), s.say("sure a 0 go 1; 1 stay")
+    ('0+ 4+', 'sure', 'error BadText')
+    >>> s.say("orders 0 go 1; 1 stay; 4 back 0 1"), s.say("show"), s.say("undo")
+    ('outs 1>2', 'year 0 round 0 outs; 0:a 1:b 4:a; 0:a 2:-', 'orders')
+    >>> s.say("orders 0 go 1; 1 stay; 4 back 0 1"), s.say("orders 0 stay"), s.say("outs 4"), s.say("outs 2"), s.say("text")
+    ('outs 1>2', 'error NotNow', 'error Unfit', 'orders', 'orders 0 go 1; 1 stay; 4 back 0 1\nouts 2')
+    >>> s.say("wanted a"), s.say("wanted g"), s.say("settle"), s.say("start 1:;/"), s.say("start 1:; / "), s.say("show"), s.say("settle "), s.say("text")
+    ('-1', 'what', 'what', 'what', 'orders', 'year 0 round 0 orders; none; none', 'none', 'none')
+"""
+
+SEATS = """
+    >>> from whateverothers.seats import Table
+    >>> wheel = (5, ((0, 1), (0, 3), (0, 4), (1, 2), (1, 4), (2, 3), (2, 4), (3, 4)), (0, 2))
+    >>> three = (wheel, ((0, 0), (1, 1), (4, 0)))
+    >>> t = Table(wheel, three[1])
+    >>> t.hand_in(0, ((0, ("go", 1)), (4, ("back", 0, 1)))), t.hand_in(1, ((1, ("go", 2)),)), t.hand_in(1, ())
+    (None, None, None)
+    >>> t.view(1)[2:] == ("orders", three, (0, None), None, (), (0, 1)), t.view(0)[6], t.view(5)[6]
+    (True, ((0, ('go', 1)), (4, ('back', 0, 1))), None)
+    >>> t.hand_in(1, ((0, ("stay",)),))
+    raises Unfit()
+    >>> t.close(), t.journal, t.view(1)[6:]
+    ('outs', ('orders 0 go 1; 1 stay; 4 back 0 1',), (None, ()))
+    >>> t.hand_in(1, ((1, 2),)), t.close(), t.view(0)[3] == (wheel, ((1, 0), (2, 1), (4, 0)))
+    (None, 'orders', True)
+    >>> t.hand_in(0, ((1, ("go", 0)),)), t.close(), t.view(0)[4], t.close(), t.view(0)[3][1]
+    (None, 'builds', (0, 1), 'orders', ((0, 0), (2, 1)))
+    >>> t.journal
+    ('orders 0 go 1; 1 stay; 4 back 0 1', 'outs 2', 'orders 1 go 0; 2 stay; 4 stay', 'builds 4:a')
+    >>> t.take_back(0)
+    raises Unfit()
+"""
+
 
 class Examples(unittest.TestCase):
     def test_charts(self):
@@ -294,6 +381,21 @@ class Examples(unittest.TestCase):
 
     def test_covers_and_papers(self):
         run_examples(self, PAPERS)
+
+    def test_fewest_backs(self):
+        run_examples(self, HELPING)
+
+    def test_orders_that_were_not_seen(self):
+        run_examples(self, HIDDEN)
+
+    def test_plans(self):
+        run_examples(self, PLANS)
+
+    def test_shells(self):
+        run_examples(self, SHELLS)
+
+    def test_tables(self):
+        run_examples(self, SEATS)
 
     def test_readme(self):
         readme = pathlib.Path(__file__).resolve().parent.parent / "README.md"

@@ -6,6 +6,8 @@ import pathlib
 import unittest
 
 from whateverothers.games import Game
+from whateverothers.seats import Table
+from whateverothers.shells import Shell
 
 FOLDER = pathlib.Path(__file__).resolve().parent.parent / "whateverothers"
 
@@ -29,8 +31,15 @@ FUNCTIONS = {
     "surety": {"harm": "board bar", "chain": "board own place", "sure": "board own place", "shut": "board own field"},
     "covers": {"least_cover": "cutters backs pairs"},
     "breaking": {"paper": "board own place", "paper_error": "board own place value"},
+    "helping": {"least_backs": "board own place"},
+    "hidden": {"ways": "board told seen", "known": "board told seen"},
+    "plans": {"plan": "board player wishes", "sure_of": "board own wishes"},
 }
-METHODS = {"go_on": "orders", "withdraw": "outs", "build": "news", "undo": "", "wanted": "player"}
+METHODS = {
+    Game: {"go_on": "orders", "withdraw": "outs", "build": "news", "undo": "", "wanted": "player"},
+    Shell: {"say": "line"},
+    Table: {"hand_in": "player thing", "take_back": "player", "close": "", "view": "player"},
+}
 ATTRIBUTES = ("board", "phase", "year", "season", "holders", "winner", "orders", "log")
 ERRORS = ("OrderError", "Unfit", "BadText", "BadBoard", "BadOrders", "TooMany", "NotNow", "NothingToUndo",
           "TooManyEdits", "BadLog")
@@ -55,13 +64,22 @@ class Interface(unittest.TestCase):
                 self.assertEqual(arguments.split(), list(taken))
                 self.assertEqual({inspect.Parameter.POSITIONAL_OR_KEYWORD}, {item.kind for item in taken.values()})
 
-    def test_games(self):
-        self.assertEqual(["Game"], defined_in("games"))
-        self.assertEqual(["chart", "pieces"], list(inspect.signature(Game).parameters))
-        for name, arguments in METHODS.items():
-            self.assertIn(name, vars(Game))
-            self.assertEqual(["self", *arguments.split()], list(inspect.signature(vars(Game)[name]).parameters))
+    def test_classes_stand_in_their_files(self):
+        for name, class_name, arguments in (("games", "Game", "chart pieces"), ("shells", "Shell", ""),
+                                            ("seats", "Table", "chart pieces")):
+            self.assertEqual(1, defined_in(name).count(class_name))
+            made = getattr(importlib.import_module(f"whateverothers.{name}"), class_name)
+            self.assertEqual(arguments.split(), list(inspect.signature(made).parameters))
+
+    def test_methods_stand_in_their_classes(self):
+        for made, methods in METHODS.items():
+            for name, arguments in methods.items():
+                self.assertIn(name, vars(made))
+                self.assertEqual(["self", *arguments.split()], list(inspect.signature(vars(made)[name]).parameters))
+
+    def test_attributes_are_set_at_first(self):
         self.assertLessEqual(set(ATTRIBUTES), set(vars(Game((1, (), ()), ()))))
+        self.assertIn("journal", vars(Table((1, (), ()), ())))
 
     def test_errors_stand_in_their_file(self):
         self.assertEqual(list(ERRORS), defined_in("errors"))

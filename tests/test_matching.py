@@ -43,7 +43,8 @@ class OneByOne(Told):
     def test_chains_that_have_to_be_changed_along(self):
         for many in range(1, 9):
             # Each cutter but the last reaches its own back and the next one's; the last reaches the first back alone.
-            pairs = [(at, 8 + at) for at in range(many - 1)] + [(at, 9 + at) for at in range(many - 1)] + [(many - 1, 8)]
+            pairs = [(at, 8 + at) for at in range(many - 1)] + [(at, 9 + at) for at in range(many - 1)]
+            pairs.append((many - 1, 8))
             self.right(many, tuple(range(many)), tuple(range(8, 8 + many)), tuple(sorted(pairs)))
             # The other way about: the first one reaches the last back alone.
             pairs = [(at, 8 + at) for at in range(1, many)] + [(at, 7 + at) for at in range(1, many)] + [(0, 7 + many)]

@@ -245,7 +245,8 @@ class ThePromise(unittest.TestCase):
                     self.compare(board, own)
 
     def test_all_sound_own_orders_of_small_boards(self):
-        for board in (THREE, (LINE, ((0, 0), (1, 0), (2, 1), (3, 0))), (YARD, ((0, 0), (1, 1), (2, 0), (3, 0), (4, 1)))):
+        for board in (THREE, (LINE, ((0, 0), (1, 0), (2, 1), (3, 0))), (YARD,
+                                                                        ((0, 0), (1, 1), (2, 0), (3, 0), (4, 1)))):
             for own in itertools.islice(all_own(board, 0), 0, None, 7 if board[0] == YARD else 1):
                 if error_of_sound(board, 0, own) is None:
                     self.compare(board, own)

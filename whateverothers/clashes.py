@@ -1,6 +1,14 @@
 """Orders given at once: who goes where, which backs fit, and the forces by those of them that stand."""
 
 
+def is_fit(back, backed):
+    """Whether an order to back fits the order of the piece that it backs."""
+    _, field, aim = back
+    if aim == field:
+        return backed[0] != "go"
+    return backed == ("go", aim)
+
+
 class Clash:
     """Orders of a board. Where stands is handed in, it has for each piece that backs whether its back stands."""
 
@@ -59,11 +67,8 @@ class Clash:
 
     def is_fitting(self, place):
         """Whether the back of this piece fits."""
-        _, backed_field, aim = self.orders[place]
-        backed = self.orders[self._places[backed_field]]
-        if aim == backed_field:
-            return backed[0] != "go"
-        return backed == ("go", aim)
+        order = self.orders[place]
+        return is_fit(order, self.orders[self._places[order[1]]])
 
     def force_of(self, stands, place):
         """The force of this piece."""

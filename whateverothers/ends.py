@@ -36,6 +36,18 @@ def behind(board, orders, outs):
     return tuple(sorted(_pieces_left(clash, settlement) + withdrawn))
 
 
+def left_behind(board, orders):
+    """The pieces behind the round if all that are pushed out are gone."""
+    clash = Clash(board, orders)
+    return tuple(sorted(_pieces_left(clash, settlement_of(clash))))
+
+
+def is_out(fields, value):
+    """Whether value is None or one of these fields, which are the exits of a piece."""
+    # Python takes True for equal to 1, so a bool has to be told apart ahead of looking it up.
+    return value is None or (is_integer(value) and value in fields)
+
+
 def _pushed_out(clash, settlement):
     pushers = [clash.winner_into(settlement, field) for field in clash.fields]
     return tuple([(place, clash.fields[pusher]) for place, pusher in enumerate(pushers)
@@ -80,5 +92,4 @@ def _are_outs(exits_told, value):
     """Whether value has for each piece that is pushed out, in order, None or one of its exits."""
     if not is_tuple_of(value, len(exits_told)):
         return False
-    # Python takes True for equal to 1, so a bool has to be told apart ahead of looking it up.
-    return all([item is None or (is_integer(item) and item in fields) for item, fields in zip(value, exits_told)])
+    return all([is_out(fields, item) for item, fields in zip(value, exits_told)])

@@ -1,8 +1,10 @@
 """Logs of games and their texts, and the games that they lead to."""
 from whateverothers.boardtexts import orders_text, pieces_text, read_orders, read_pieces
-from whateverothers.errors import BadLog, BadText, OrderError, Unfit
+from whateverothers.errors import BadLog, BadText, NotNow, OrderError, Unfit
 from whateverothers.games import Game
 from whateverothers.kinds import integer_told, is_tuple_of
+
+GONE = "-"
 
 
 def game_behind(chart, pieces, value):
@@ -22,8 +24,12 @@ def game_behind(chart, pieces, value):
 
 def game_text(game):
     """The text of game: a line for each of its deeds."""
-    lines = [_deed_text(board, deed) for board, deed in zip(game.boards_ahead(), game.log)]
-    return "".join([line + "\n" for line in lines])
+    return "".join([line + "\n" for line in game_lines(game)])
+
+
+def game_lines(game):
+    """The lines of the text of game, without their line feeds."""
+    return [_deed_text(board, deed) for board, deed in zip(game.boards_ahead(), game.log)]
 
 
 def read_game(chart, pieces, value):
@@ -32,15 +38,32 @@ def read_game(chart, pieces, value):
     if not isinstance(value, str):
         raise BadText()
     for line in value.split("\n")[:-1]:
+        phase, _, told = line.partition(" ")
         try:
-            _do_line(game, line)
+            do_told(game, phase, told)
         except OrderError:
             raise BadText() from None
-    # Some of what is wrong was passed over above: what stands behind the last line feed, and words in the place of
-    # "-". Only a text is what its game is written as.
+    # Some of what is wrong was passed over above: what stands behind the last line feed, and blanks that are left out.
+    # Only a text is what its game is written as.
     if game_text(game) != value:
         raise BadText()
     return game
+
+
+def do_told(game, phase, text):
+    """Does the deed of this phase, the first word of its line, that text, the rest of it, tells.
+
+    Raises NotNow if there is another phase, BadText if text tells nothing, and what the deed raises.
+    """
+    if phase != game.phase:
+        raise NotNow(game.phase)
+    if phase == "orders":
+        game.go_on(read_orders(game.board, text))
+    elif phase == "outs":
+        game.withdraw(_read_outs(text))
+    else:
+        # News that are not refused are told as pieces are: their fields are unlike and ascend.
+        game.build(read_pieces(game.board[0], text))
 
 
 def _do(game, word, argument):
@@ -55,20 +78,6 @@ def _do(game, word, argument):
         raise Unfit()
 
 
-def _do_line(game, line):
-    """Does one deed, told as in a text; raises some OrderError if there is none such or it is refused."""
-    word, _, told = line.partition(" ")
-    if word == "orders":
-        game.go_on(read_orders(game.board, told))
-    elif word == "outs":
-        game.withdraw(_outs_told(told))
-    elif word == "builds":
-        # News that are not refused are told as pieces are: their fields are unlike and ascend.
-        game.build(read_pieces(game.board[0], told))
-    else:
-        raise BadText()
-
-
 def _deed_text(board, deed):
     """The line of a deed that was done on board, without its line feed."""
     word, argument = deed
@@ -80,9 +89,14 @@ def _deed_text(board, deed):
 
 
 def _outs_text(outs):
-    return " ".join(["-" if out is None else str(out) for out in outs])
+    return " ".join([GONE if out is None else str(out) for out in outs])
 
 
-def _outs_told(text):
-    """The outs that text tells, with None for "-" and for what is no integer."""
-    return tuple([integer_told(word) for word in text.split(" ")])
+def _read_outs(text):
+    """The outs that text tells; raises BadText if it tells none."""
+    words = text.split(" ")
+    outs = tuple([integer_told(word) for word in words])
+    # What is no integer is None, as those are that are gone.
+    if not all([out is not None or word == GONE for word, out in zip(words, outs)]):
+        raise BadText()
+    return outs

@@ -20,14 +20,14 @@ def winner_of(holders):
 
 def wanted_by(board, holders, player):
     """How many centres the player holds, less how many pieces the player has."""
-    return holders.count(player) - len(_own_fields(board, player))
+    return holders.count(player) - len(own_fields_of(board, player))
 
 
 def are_news(board, holders, value):
     """Whether value tells what may be built and has to be taken off, and nothing else."""
     if not isinstance(value, tuple) or not _are_ascending_pairs(board[0], value):
         return False
-    if not all([_are_news_of(board, holders, player, value) for player in range(MAX_PLAYERS)]):
+    if not all([are_news_of(board, holders, player, value) for player in range(MAX_PLAYERS)]):
         return False
     return len(pieces_with(board, value)) <= MAX_PIECES
 
@@ -39,7 +39,18 @@ def pieces_with(board, news):
     return tuple(sorted(left + new))
 
 
-def _own_fields(board, player):
+def are_news_of(board, holders, player, news):
+    """Whether the news tell of this player what they may tell, by what it wants."""
+    fields = [field for field, owner in news if owner == player]
+    wants = wanted_by(board, holders, player)
+    if wants > 0:
+        return len(fields) <= wants and all([_can_build(board, holders, player, field) for field in fields])
+    standing = own_fields_of(board, player)
+    return len(fields) == -wants and all([field in standing for field in fields])
+
+
+def own_fields_of(board, player):
+    """The fields of all pieces of the player, ascending."""
     return [field for field, owner in board[1] if owner == player]
 
 
@@ -51,16 +62,6 @@ def _are_ascending_pairs(chart, items):
         if place > 0 and item <= items[place - 1]:
             return False
     return True
-
-
-def _are_news_of(board, holders, player, news):
-    """Whether the news tell of this player what they may tell, by what it wants."""
-    fields = [field for field, owner in news if owner == player]
-    wants = wanted_by(board, holders, player)
-    if wants > 0:
-        return len(fields) <= wants and all([_can_build(board, holders, player, field) for field in fields])
-    own_fields = _own_fields(board, player)
-    return len(fields) == -wants and all([field in own_fields for field in fields])
 
 
 def _can_build(board, holders, player, field):
