@@ -2,7 +2,7 @@
 import itertools
 import unittest
 
-from tests.plain import FOUR, LINE, THREE, WHEEL
+from tests.plain import FOUR, LINE, THREE
 from tests.plainsure import (all_own, crowd, drawn_own, error_of_paper, error_of_sound, in_the_way, is_sure,
                              many_orders, orders_that_keep)
 from tests.situations import board_of, own_of
