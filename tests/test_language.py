@@ -1,8 +1,10 @@
-"""Those rules of the language that a look at the files can tell: imports, sizes, signs, names."""
+"""Those rules of the language that a look at the files can tell: imports, sizes, signs, names, ranges and views."""
 import ast
 import builtins
 import pathlib
 import unittest
+
+from tests.iterated import astray
 
 FOLDER = pathlib.Path(__file__).resolve().parent.parent / "whateverothers"
 LIBRARY = {"heapq": {"heappush", "heappop", "heapify", "heapreplace", "heappushpop"},
@@ -134,6 +136,88 @@ class Words(unittest.TestCase):
             self.assertNotIn(node.id, known | taken, path.name)
         if isinstance(node, ast.Name) and node.id in known:
             self.assertIn(node.id, BUILTINS, path.name)
+
+
+class Iterated(unittest.TestCase):
+    """Rule L23, and that the look for it finds what it forbids and lets by what it allows."""
+
+    def test_no_range_zip_or_view_of_the_package_is_passed_on_or_kept_otherwise(self):
+        for path, tree in trees():
+            self.assertEqual([], astray(tree), path.name)
+
+    def let_by(self, body):
+        self.assertEqual([], self.found(body), body)
+
+    def refused(self, kind, body):
+        self.assertEqual([kind], self.found(body), body)
+
+    def found(self, body):
+        rows = "".join([f"    {row}\n" for row in body.split("\n")])
+        return [kind for _, kind in astray(ast.parse(f"def look(xs, ys, d, box):\n{rows}"))]
+
+    def test_the_row_is_told(self):
+        row = "return _marks(game.board, range(len(game.board[1])), settled(game.board, read_orders(game.board, text)))"
+        self.assertEqual([(3, "range")], astray(ast.parse(f"def _settle(game, text):\n    low = 0\n    {row}\n")))
+
+    def test_what_is_iterated_at_once_is_let_by(self):
+        for maker in ("range(3)", "zip(xs, ys)", "enumerate(xs)", "reversed(xs)", "d.items()", "d.keys()", "d.values()"):
+            for body in ("for x in {}:\n    pass", "return [x for x in {}]", "return {{x: 1 for y in xs for x in {}}}",
+                         "return list({})", "return tuple({})", "return dict({})", "return sorted({}, reverse=True)",
+                         "return sum({})", "return any({})", "return all({})", "return bytes({})", "return min({})",
+                         "return max({}, default=0)", "return ', '.join({})", "return mark(list({}), xs)",
+                         "for k, x in enumerate({}):\n    pass", "for x, y in zip({}, ys):\n    pass"):
+                self.let_by(body.format(maker))
+
+    def test_what_is_passed_on_or_stored_is_refused(self):
+        for maker in ("range", "zip", "enumerate", "reversed", "items", "keys", "values"):
+            call = f"d.{maker}()" if maker in {"items", "keys", "values"} else f"{maker}(xs)"
+            for body in ("return mark({})", "return mark(xs, {})", "mark(xs, places={})", "return box.mark({})",
+                         "return {}", "return ({}, xs)", "return [{}]", "return {{1: {}}}", "return xs or {}",
+                         "return [*{}]", "mark(*{})", "box.places = {}", "xs[0] = {}", "x, y = {}", "x = y = {}",
+                         "x: object = {}", "x = mark({})", "x = {} if xs else ys", "return lambda: {}", "yield {}",
+                         "yield from {}", "def mark(x={}):\n    pass", "return set({})", "return {} == xs",
+                         "return xs == {}", "return min({}, xs)", "return min({}, key=mark)", "return sorted(xs, key={})",
+                         "return box.mark.join({})", "return list(xs, {})", "for x in (xs, {}):\n    pass"):
+                self.refused(maker, body.format(call))
+
+    def test_len_reversed_in_and_items_of_what_is_made(self):
+        for body in ("return len(range(3))", "return len(d.items())", "return list(reversed(range(3)))",
+                     "return 1 in range(3)", "return 1 not in range(3)", "return 1 in d.keys()"):
+            self.let_by(body)
+        for kind, body in (("zip", "return len(zip(xs, ys))"), ("values", "return len(d.values())"),
+                           ("items", "return list(reversed(d.items()))"), ("values", "return 1 in d.values()"),
+                           ("zip", "return 1 in zip(xs, ys)"), ("range", "return range(3) in xs"),
+                           ("range", "return range(3)[1]"), ("enumerate", "return list(reversed(enumerate(xs)))")):
+            self.refused(kind, body)
+
+    def test_a_kept_range_is_let_by_where_it_is_used_as_told(self):
+        for use in ("for x in kept:\n    pass", "return [x for x in kept]", "return list(kept)", "return tuple(kept)",
+                    "return sorted(kept)", "return sum(kept)", "return min(kept)", "return max(kept, default=0)",
+                    "return any(kept)", "return all(kept)", "return len(kept)", "return 1 in kept", "return kept[1]",
+                    "return list(enumerate(kept))", "for x in reversed(kept):\n    pass", "yield len(kept)",
+                    "return [x for x, y in zip(xs, kept) if y in kept]", "return mark(list(kept))"):
+            self.let_by(f"kept = range(3)\n{use}")
+
+    def test_a_kept_range_is_refused_where_it_is_used_otherwise(self):
+        for use in ("return kept", "return mark(kept)", "return box.mark(kept)", "mark(places=kept)", "box.places = kept",
+                    "return [kept]", "return kept == xs", "return kept[1:]", "if kept:\n    pass", "other = kept",
+                    "kept = xs", "for kept in xs:\n    pass", "return [kept for kept in xs]", "del kept", "kept: list",
+                    "return lambda: len(kept)", "return any(x for x in kept)", "return mark(*kept)", "return set(kept)",
+                    "return zip(xs, kept)", "return enumerate(kept)", "def mark():\n    return len(kept)",
+                    "def mark(kept):\n    pass", "def mark():\n    global kept"):
+            self.assertIn("range", self.found(f"kept = range(3)\n{use}"), use)
+
+    def test_a_range_is_kept_by_a_plain_variable_of_a_function_alone(self):
+        for text in ("KEPT = range(3)\n", "class Box:\n    kept = range(3)\n",
+                     "def __len__(self):\n    kept = range(3)\n    return len(kept)\n",
+                     "def look(kept):\n    kept = range(3)\n    return len(kept)\n"):
+            self.assertEqual(["range"], [kind for _, kind in astray(ast.parse(text))], text)
+        self.assertEqual([], astray(ast.parse("def __init__(self):\n    kept = range(3)\n    self.many = len(kept)\n")))
+
+    def test_nothing_else_is_kept(self):
+        for kind, call in (("zip", "zip(xs, ys)"), ("enumerate", "enumerate(xs)"), ("reversed", "reversed(xs)"),
+                           ("items", "d.items()"), ("keys", "d.keys()"), ("values", "d.values()")):
+            self.refused(kind, f"kept = {call}\nreturn list(kept)")
 
 
 if __name__ == "__main__":

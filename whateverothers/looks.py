@@ -66,7 +66,8 @@ def _text(game):
 
 
 def _settle(game, text):
-    return _marks(game.board, range(len(game.board[1])), settled(game.board, read_orders(game.board, text)))
+    places = list(range(len(game.board[1])))
+    return _marks(game.board, places, settled(game.board, read_orders(game.board, text)))
 
 
 def _marks(board, places, bools):
